@@ -1,0 +1,1 @@
+"""Likehands: any number of like hands, judged at once."""
