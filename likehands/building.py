@@ -1,4 +1,4 @@
-"""How a least machine is built of states that are first known by any keys."""
+"""How a least machine is built of states that are first known by any keys, also where reading may go several ways."""
 
 
 def built(letters, start, follow, is_end):
@@ -120,3 +120,71 @@ def merged(letters, table, ended, homes):
     rows = [tuple([numbers[homes[target]] for target in table[head]]) for head in heads]
     ends = [number for number, head in enumerate(heads) if ended[head]]
     return letters, tuple(rows), tuple(ends)
+
+
+def useful_ways(starts, moves, is_end):
+    """What reading that may go several ways comes to, as far as it leads on to an end.
+
+    moves(key) is, for each letter, the list of the keys that may come behind a
+    key. Told are the numbers of the starts; for each letter's column, and in it
+    for each number, the numbers behind; and for each number whether a word may stop there.
+    """
+    keys, rows = explored(starts, moves)
+    ended = [is_end(key) for key in keys]
+    leads = leading(rows, ended)
+    numbers = {}
+    for old in range(len(keys)):
+        if leads[old]:
+            numbers[old] = len(numbers)
+    width = len(rows[0])
+    ways = [[[numbers[to] for to in rows[old][column] if leads[to]] for old in numbers] for column in range(width)]
+    firsts = [numbers[old] for old in range(len(starts)) if leads[old]]
+    return firsts, ways, [ended[old] for old in numbers]
+
+
+def explored(starts, moves):
+    """The keys that are come to from unlike starts, these first, and for each one and letter the numbers behind."""
+    keys = list(starts)
+    numbers = {key: number for number, key in enumerate(starts)}
+    rows = []
+    while len(rows) < len(keys):
+        row = []
+        behind = moves(keys[len(rows)])
+        for group in behind:
+            for key in group:
+                if key not in numbers:
+                    numbers[key] = len(keys)
+                    keys.append(key)
+            row.append([numbers[key] for key in group])
+        rows.append(row)
+    return keys, rows
+
+
+def leading(rows, ended):
+    """For each number whether reading may go on from it to an end."""
+    back = [[] for row in rows]
+    for number, row in enumerate(rows):
+        for group in row:
+            for target in group:
+                back[target].append(number)
+    leads = list(ended)
+    found = [number for number, stop in enumerate(ended) if stop]
+    while len(found) > 0:
+        target = found.pop()
+        for number in back[target]:
+            if not leads[number]:
+                leads[number] = True
+                found.append(number)
+    return leads
+
+
+def built_of_ways(letters, firsts, ways, ended):
+    """The least machine of the words by which one of several ways, as useful_ways tells them, leads to an end."""
+
+    def follow(held):
+        return [tuple(sorted({target for number in held for target in column[number]})) for column in ways]
+
+    def is_end(held):
+        return any([ended[number] for number in held])
+
+    return built(letters, tuple(firsts), follow, is_end)

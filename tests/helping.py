@@ -1,5 +1,6 @@
 """What the tests share: words, chance that is always the same, and plain other ways to the same answers."""
 
+import re
 from itertools import product
 from random import Random
 
@@ -133,3 +134,152 @@ def tried_words(letters, seed=1):
     """All short words of the letters, and some of up to forty letters."""
     chance = Random(seed)
     return words_up_to(letters, LENGTHS[len(letters)]) + [any_word(chance, letters, length) for length in range(9, 41)]
+
+
+class Unfriendly:
+    """It can't be compared, counted, gone through or tested."""
+
+    def refuse(self, *told):
+        raise RuntimeError("do not ask")
+
+    __eq__ = __lt__ = __le__ = __gt__ = __ge__ = __len__ = __iter__ = __bool__ = __getitem__ = __contains__ = refuse
+    __hash__ = None
+
+
+# Numbers with a point are left out: of these nothing is promised.
+OTHERS = [
+    None, True, False, 0, 1, -1, 10 ** 50, "", "0", "No", b"ab", [], {}, set(), frozenset(), range(3), object(),
+    int, len, ValueError("x"), (None,), [None], {0: 1}, "(('a',), (), ())", Unfriendly(), iter(()), ...,
+]
+
+
+def any_item(chance, letters):
+    """The text of an item and what it stands for."""
+    mark = chance.choice(("", "", "*", "+"))
+    kind = chance.randrange(3)
+    if kind == 0:
+        return "." + mark, (letters, mark)
+    if kind == 1:
+        sign = chance.choice(letters)
+        return sign + mark, (sign, mark)
+    signs = "".join(sorted(chance.sample(letters, chance.randrange(1, len(letters) + 1))))
+    return "[" + signs + "]" + mark, (signs, mark)
+
+
+def any_pattern(chance, letters, many):
+    """The text of a pattern of so many items, and its branches."""
+    texts, branches = [[]], [[]]
+    for turn in range(many):
+        text, item = any_item(chance, letters)
+        if turn > 0 and chance.randrange(3) == 0:
+            texts.append([])
+            branches.append([])
+        texts[-1].append(text)
+        branches[-1].append(item)
+    return "|".join("".join(branch) for branch in texts), branches
+
+
+SHAPES = ("row", "ring")
+ALL_LETTERS = ("a", "ab", "abc", "bdxz", "abcde")
+# The greatest numbers of hands for one to five letters: forty, and at most 1,100 words of the letters.
+HANDS = {1: 40, 2: 10, 3: 6, 4: 5, 5: 4}
+
+
+def any_letters(chance, letters):
+    """One or more of the letters, unlike and rising."""
+    return "".join(sorted(chance.sample(letters, chance.randrange(1, len(letters) + 1))))
+
+
+def any_goal(chance, letters, many):
+    """A pattern of so many items of which the empty word isn't."""
+    while True:
+        pattern, branches = any_pattern(chance, letters, many)
+        if not is_of(pattern, ""):
+            return pattern
+
+
+def is_of(pattern, word):
+    """Whether a word is of a pattern: Python's own patterns stand for the same words."""
+    return re.fullmatch(pattern, word) is not None
+
+
+# Each kind of rule, as far as a rule's kind tells how it is gone by.
+KINDS = ["one", "two", "call"] + [how + " " + where for how in ("all", "some") for where in ("left", "right", "others")]
+
+
+def kinds_of(shape):
+    return [kind for kind in KINDS if shape == "row" or kind.split()[-1] not in ("left", "right")]
+
+
+def any_rule(chance, letters, kind):
+    """A rule of one of KINDS."""
+    first, second, third, fourth = [chance.choice(letters) for _ in range(4)]
+    if kind == "one":
+        return "one", first, second, None
+    if kind == "two":
+        return "two", first, second, third, fourth
+    if kind == "call":
+        return "call", first, second, any_word(chance, letters, len(letters))
+    how, where = kind.split()
+    return "one", first, second, (how, where, any_letters(chance, letters))
+
+
+def any_world(chance, letters, shape, many_rules):
+    """A world with so many rules."""
+    rules = tuple(any_rule(chance, letters, chance.choice(kinds_of(shape))) for _ in range(many_rules))
+    return letters, shape, rules, any_goal(chance, letters, 3), any_goal(chance, letters, 4)
+
+
+def any_worlds(seed, many_worlds, most_rules=4):
+    chance = Random(seed)
+    for turn in range(many_worlds):
+        yield any_world(chance, ALL_LETTERS[turn % 5], chance.choice(SHAPES), chance.randrange(most_rules + 1))
+
+
+def stepped(letters, shape, rule, word):
+    """The set of the words that come of a word by a rule: place by place, straight from points 13 to 15."""
+    found = set()
+    for place in range(len(word)):
+        hands = dict(enumerate(word))
+        if rule[0] == "two":
+            beside = place + 1
+            if beside == len(word):
+                beside = 0
+                if shape == "row" or len(word) == 1:
+                    continue
+            if (word[place], word[beside]) != rule[1:3]:
+                continue
+            hands[place], hands[beside] = rule[3:]
+        else:
+            if word[place] != rule[1] or rule[0] == "one" and not lets(rule[3], word, place):
+                continue
+            if rule[0] == "call":
+                hands = {at: rule[3][letters.index(hand)] for at, hand in hands.items()}
+            hands[place] = rule[2]
+        found.add("".join(hands[at] for at in range(len(word))))
+    return found
+
+
+def lets(guard, word, place):
+    """Whether a guard holds for the hand at a place, straight from point 13."""
+    if guard is None:
+        return True
+    how, where, some = guard
+    told = {"left": range(place), "right": range(place + 1, len(word)),
+            "others": [at for at in range(len(word)) if at != place]}[where]
+    return {"all": all, "some": any}[how](word[at] in some for at in told)
+
+
+def all_stepped(world, word):
+    """The set of the words that come of a word by any rule of a world."""
+    return set().union(*[stepped(world[0], world[1], rule, word) for rule in world[2]])
+
+
+def all_come(world, number):
+    """The set of the words that come for a number of hands."""
+    found = {word for word in all_words(world[0], number) if is_of(world[3], word)}
+    newest = found
+    while newest:
+        newest = set().union(*[all_stepped(world, word) for word in newest]) - found
+        found = found | newest
+    return found

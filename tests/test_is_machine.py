@@ -3,26 +3,9 @@ from random import Random
 
 from likehands.machines import both, is_machine, least
 from likehands.patterns import machine_of
-from helping import any_machine, any_machines, cycle, every_word, no_words
+from helping import OTHERS, Unfriendly, any_machine, any_machines, cycle, every_word, no_words
 
 GOOD = ("ab", ((0, 1), (2, 1), (2, 2)), (0, 2))
-
-
-class Unfriendly:
-    """It can't be compared, counted, gone through or tested."""
-
-    def refuse(self, *told):
-        raise RuntimeError("do not ask")
-
-    __eq__ = __lt__ = __le__ = __gt__ = __ge__ = __len__ = __iter__ = __bool__ = __getitem__ = __contains__ = refuse
-    __hash__ = None
-
-
-# Numbers with a point are left out: of these nothing is promised.
-OTHERS = [
-    None, True, False, 0, 1, -1, 10 ** 50, "", "0", "No", b"ab", [], {}, set(), frozenset(), range(3), object(),
-    int, len, ValueError("x"), (None,), [None], {0: 1}, "(('a',), (), ())", Unfriendly(), iter(()), ...,
-]
 
 
 class IsMachine(unittest.TestCase):

@@ -6,7 +6,7 @@ from random import Random
 from likehands.errors import HandsError, NoPattern
 from likehands.machines import either, has, least_word
 from likehands.patterns import machine_of
-from helping import check_least, every_word, reads, words_up_to
+from helping import any_pattern, check_least, every_word, reads, words_up_to
 
 
 def item_words(signs, mark, length):
@@ -26,32 +26,6 @@ def put_together(branches, length):
             words = {word + more for word in words for more in item_words(signs, mark, length - len(word))}
         found |= words
     return found
-
-
-def any_item(chance, letters):
-    """The text of an item and what it stands for."""
-    mark = chance.choice(("", "", "*", "+"))
-    kind = chance.randrange(3)
-    if kind == 0:
-        return "." + mark, (letters, mark)
-    if kind == 1:
-        sign = chance.choice(letters)
-        return sign + mark, (sign, mark)
-    signs = "".join(sorted(chance.sample(letters, chance.randrange(1, len(letters) + 1))))
-    return "[" + signs + "]" + mark, (signs, mark)
-
-
-def any_pattern(chance, letters, many):
-    """The text of a pattern of so many items, and its branches."""
-    texts, branches = [[]], [[]]
-    for turn in range(many):
-        text, item = any_item(chance, letters)
-        if turn > 0 and chance.randrange(3) == 0:
-            texts.append([])
-            branches.append([])
-        texts[-1].append(text)
-        branches[-1].append(item)
-    return "|".join("".join(branch) for branch in texts), branches
 
 
 class WorkedByHand(unittest.TestCase):
