@@ -188,3 +188,48 @@ def built_of_ways(letters, firsts, ways, ended):
         return any([ended[number] for number in held])
 
     return built(letters, tuple(firsts), follow, is_end)
+
+
+def least_read(letters, starts, moves, is_end):
+    """The least word by which one of several ways leads from a start to an end, or None.
+
+    moves(key) is as useful_ways takes it. The keys that are first come to by
+    one word are a group, so each key stands in the group of its least word
+    alone, and the groups stand in the order of their words.
+    """
+    seen = {key: True for key in starts}
+    groups = [list(starts)]
+    origins = [(0, "")]
+    at = 0
+    while at < len(groups):
+        group = groups[at]
+        if any([is_end(key) for key in group]):
+            return word_to(at, origins)
+        rows = [moves(key) for key in group]
+        for column, letter in enumerate(letters):
+            fresh = unseen([row[column] for row in rows], seen)
+            if len(fresh) > 0:
+                groups.append(fresh)
+                origins.append((at, letter))
+        at += 1
+    return None
+
+
+def unseen(lists, seen):
+    """The keys of some lists that were not seen, each once; now they are."""
+    fresh = []
+    for keys in lists:
+        for key in keys:
+            if key not in seen:
+                seen[key] = True
+                fresh.append(key)
+    return fresh
+
+
+def word_to(number, origins):
+    """The word that leads to a group, told the number of the one ahead of each and the letter read there."""
+    signs = []
+    while number != 0:
+        number, letter = origins[number]
+        signs.append(letter)
+    return "".join(signs[::-1])

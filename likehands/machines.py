@@ -1,6 +1,6 @@
 """Machines that read words: which ones there are, how they are put together, and their words."""
 
-from likehands.building import built
+from likehands.building import built, least_read
 
 MOST_LETTERS = 5
 
@@ -129,28 +129,14 @@ def least_word(machine):
     """The least word that a machine has, or None."""
     letters, table, ends = machine
     marks = end_marks(machine)
-    ways = {0: (0, "")}
-    found = [0]
-    at = 0
-    while at < len(found):
-        state = found[at]
-        if marks[state]:
-            return word_to(state, ways)
-        for letter, target in zip(letters, table[state]):
-            if target not in ways:
-                ways[target] = (state, letter)
-                found.append(target)
-        at += 1
-    return None
 
+    def moves(state):
+        return [[target] for target in table[state]]
 
-def word_to(state, ways):
-    """The word that leads to a state, told the state ahead of each one and the letter read there."""
-    signs = []
-    while state != 0:
-        state, letter = ways[state]
-        signs.append(letter)
-    return "".join(signs[::-1])
+    def is_end(state):
+        return marks[state]
+
+    return least_read(letters, [0], moves, is_end)
 
 
 def how_many(machine, length):

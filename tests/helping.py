@@ -1,7 +1,7 @@
 """What the tests share: words, chance that is always the same, and plain other ways to the same answers."""
 
 import re
-from itertools import product
+from itertools import combinations, product
 from random import Random
 
 
@@ -12,6 +12,11 @@ def words_up_to(letters, length):
 
 def all_words(letters, length):
     return ["".join(signs) for signs in product(letters, repeat=length)]
+
+
+def by_order(word):
+    """By what words are ordered, as point 2 tells."""
+    return len(word), word
 
 
 def reads(machine, word):
@@ -58,6 +63,12 @@ def no_words(letters):
 
 def every_word(letters):
     return letters, ((0,) * len(letters),), (0,)
+
+
+def empty_alone(letters):
+    """The machine of the empty word alone."""
+    width = len(letters)
+    return letters, ((1,) * width, (1,) * width), (0,)
 
 
 def disguised(chance, machine):
@@ -283,3 +294,8 @@ def all_come(world, number):
         newest = set().union(*[all_stepped(world, word) for word in newest]) - found
         found = found | newest
     return found
+
+
+def struck(word, size):
+    """The views of a word: all that is left when letters are struck out, of at most so many letters."""
+    return {"".join(signs) for many in range(size + 1) for signs in combinations(word, many)}

@@ -6,15 +6,9 @@ from likehands.machines import both, either, has, how_many, is_machine, least, l
 from likehands.patterns import machine_of
 from likehands.steps import after
 from helping import (ALL_LETTERS, SHAPES, any_letters, any_machine, any_rule, any_word, check_least, cycle, disguised,
-                     every_word, kinds_of, no_words, reads, stepped, words_up_to)
+                     empty_alone, every_word, kinds_of, no_words, reads, stepped, words_up_to)
 
 SHORT = {1: 14, 2: 7, 3: 5, 4: 4, 5: 3}
-
-
-def empty_alone(letters):
-    """The machine of the empty word alone."""
-    width = len(letters)
-    return letters, ((1,) * width, (1,) * width), (0,)
 
 
 def some_letters(letters):

@@ -152,6 +152,8 @@ class NoWorlds(Case):
             self.rule_is_none(rule[1:], at)
             self.rule_is_none(rule + (None,), at)
             self.rule_is_none(rule + ("a",), at)
+            self.rule_is_none(rule + (None, None), at)
+            self.rule_is_none(rule + ("a", "a"), at)
             self.rule_is_none(rule[::-1], at)
             self.rule_is_none(dict(enumerate(rule)), at)
             self.rule_is_none((rule,), at)

@@ -102,6 +102,56 @@ class Language(unittest.TestCase):
             top = [name for node in tree.body for name in top_names(node)]
             self.assertEqual(len(top), len(set(top)))
 
+    def test_names_of_imports_and_classes(self):
+        # L15: no parameter, local variable or nested function has such a name.
+        for path, text, tree in self.each():
+            taken = {name for node in tree.body if isinstance(node, (ast.ImportFrom, ast.ClassDef)) for name in top_names(node)}
+            for function in ast.walk(tree):
+                if isinstance(function, (ast.FunctionDef, ast.Lambda)):
+                    inner = {name for part in ast.iter_child_nodes(function) for name in bound_names(part)}
+                    self.assertEqual(inner & taken, set())
+
+    def test_imported_names_stand_in_the_very_file(self):
+        # L16: no two files import from each other, neither through other files.
+        imports = {}
+        for path, text, tree in self.each():
+            imports[path.stem] = set()
+            for node in tree.body:
+                if isinstance(node, ast.ImportFrom):
+                    other = node.module.split(".")[1]
+                    imports[path.stem].add(other)
+                    there = ast.parse((PACKAGE / (other + ".py")).read_text(encoding="utf-8")).body
+                    defined = {name for part in there if not isinstance(part, ast.ImportFrom) for name in top_names(part)}
+                    self.assertLessEqual(set(top_names(node)), defined)
+        while imports:
+            free = [name for name in imports if not imports[name] & set(imports)]
+            self.assertNotEqual(free, [])
+            for name in free:
+                del imports[name]
+
+    def test_sets(self):
+        # L24, as far as it is needed here: a set stands directly in sorted or len, or behind in.
+        for path, text, tree in self.each():
+            allowed = []
+            for node in ast.walk(tree):
+                if isinstance(node, ast.Call) and isinstance(node.func, ast.Name) and node.func.id in ("sorted", "len"):
+                    allowed += node.args
+                if isinstance(node, ast.Compare) and isinstance(node.ops[0], (ast.In, ast.NotIn)):
+                    allowed += node.comparators
+            for node in ast.walk(tree):
+                called = node.func if isinstance(node, ast.Call) else None
+                if isinstance(node, (ast.Set, ast.SetComp)) or isinstance(called, ast.Name) and called.id == "set":
+                    self.assertIn(node, allowed)
+
+    def test_iterated_at_once(self):
+        # L23: these are not stored or returned.
+        for path, text, tree in self.each():
+            for node in ast.walk(tree):
+                if isinstance(node, (ast.Assign, ast.Return)) and isinstance(node.value, ast.Call):
+                    called = node.value.func
+                    name = called.id if isinstance(called, ast.Name) else called.attr
+                    self.assertNotIn(name, ("zip", "enumerate", "reversed", "range", "items", "keys", "values"))
+
     def test_builtins_and_methods(self):
         own = set()
         for path, text, tree in self.each():

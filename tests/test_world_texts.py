@@ -238,6 +238,10 @@ class Refused(unittest.TestCase):
                 self.refused(TEXT.replace(word, sign, 1))
                 self.refused(TEXT.replace(word, word + sign, 1))
 
+    def test_things_that_are_no_text(self):
+        for thing in (None, 0, True, b"", TEXT.encode(), [], [TEXT], (), WORLD, RING, {}, object()):
+            self.refused(thing)
+
     def test_a_refusal_changes_nothing(self):
         first = read_world(TEXT)
         self.refused(TEXT + "bad a\n")
