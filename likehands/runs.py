@@ -31,19 +31,28 @@ def next_words(world, word):
 
 
 def least_run(world, number):
-    """The run with the fewest words for a number of hands, of these the first; or None.
+    """The run with the fewest words for a number of hands, of these the first; or None."""
+    bad = machine_of(world[0], world[4])
+
+    def is_last(word):
+        return has(bad, word)
+
+    return shortest_run(world, number, is_last)
+
+
+def shortest_run(world, number, is_last):
+    """The shortest list of words from begin to one that is_last tells to be a last one, the first of these; or None.
 
     Words are gone through in the order of the first shortest lists that lead
     to them: so the way by which a word is first found is the first shortest
-    one, and so is the first bad word's.
+    one, and so is the first last word's.
     """
-    bad = machine_of(world[0], world[4])
     found = begun(world, number)
     origins = {word: None for word in found}
     at = 0
     while at < len(found):
         word = found[at]
-        if has(bad, word):
+        if is_last(word):
             return run_to(word, origins)
         for other in next_words(world, word):
             if other not in origins:

@@ -296,6 +296,35 @@ def all_come(world, number):
     return found
 
 
+def least_list(world, number, is_last):
+    """The first shortest list of words from begin to a last one, by the least list of so many words to each word."""
+    lists = {word: [word] for word in all_words(world[0], number) if is_of(world[3], word)}
+    known = set(lists)
+    while True:
+        ended = [lists[word] for word in lists if is_last(word)]
+        if ended:
+            return min(ended)
+        longer = {}
+        for word in lists:
+            for other in all_stepped(world, word):
+                longer[other] = min(longer.get(other, lists[word] + [other]), lists[word] + [other])
+        if set(longer) <= known:
+            return None
+        known |= set(longer)
+        lists = longer
+
+
 def struck(word, size):
     """The views of a word: all that is left when letters are struck out, of at most so many letters."""
     return {"".join(signs) for many in range(size + 1) for signs in combinations(word, many)}
+
+
+def framed(word, size):
+    """The windows of a word: its signs, with marks ahead of it and behind it, as many one behind the other as the size."""
+    signs = "^" * (size - 1) + word + "$" * (size - 1)
+    return {signs[at:at + size] for at in range(len(signs) - size + 1)}
+
+
+def all_windows(letters, size):
+    """All texts of so many letters and marks, also such as are a window of no word."""
+    return ["".join(signs) for signs in product("$^" + letters, repeat=size)]

@@ -3,7 +3,8 @@ from itertools import product
 from random import Random
 
 from likehands.runs import come, first_broken, least_run
-from helping import (ALL_LETTERS, HANDS, SHAPES, all_come, all_stepped, all_words, any_goal, any_world, any_worlds, is_of)
+from helping import (ALL_LETTERS, HANDS, SHAPES, all_come, all_stepped, all_words, any_goal, any_world, any_worlds, is_of,
+                     least_list)
 
 # One hand at a time goes in from the left; two in are bad. With a guard on the others no two are ever in.
 DOOR = ("io", "row", (("one", "o", "i", None), ("one", "i", "o", None)), "o+", ".*i.*i.*")
@@ -13,21 +14,7 @@ TOKEN = ("abt", "ring", (("two", "t", "a", "b", "t"),), "ta*", "b*t")
 
 
 def least_by_lists(world, number):
-    """The first shortest run, by the least list of so many words that leads to each word."""
-    lists = {word: [word] for word in all_words(world[0], number) if is_of(world[3], word)}
-    known = set(lists)
-    while True:
-        broken = [lists[word] for word in lists if is_of(world[4], word)]
-        if broken:
-            return min(broken)
-        longer = {}
-        for word in lists:
-            for other in all_stepped(world, word):
-                longer[other] = min(longer.get(other, lists[word] + [other]), lists[word] + [other])
-        if set(longer) <= known:
-            return None
-        known |= set(longer)
-        lists = longer
+    return least_list(world, number, lambda word: is_of(world[4], word))
 
 
 def is_run(world, words):
