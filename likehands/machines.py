@@ -1,6 +1,6 @@
 """Machines that read words: which ones there are, how they are put together, and their words."""
 
-from likehands.building import built, least_read
+from likehands.building import built, least_read, useful_ways
 
 MOST_LETTERS = 5
 
@@ -137,6 +137,20 @@ def least_word(machine):
         return marks[state]
 
     return least_read(letters, [0], moves, is_end)
+
+
+def ways_of(machine):
+    """The ways along which a machine reads the words that it has, as useful_ways tells them."""
+    letters, table, ends = machine
+    marks = end_marks(machine)
+
+    def moves(state):
+        return [[target] for target in table[state]]
+
+    def is_end(state):
+        return marks[state]
+
+    return useful_ways([0], moves, is_end)
 
 
 def how_many(machine, length):

@@ -3,23 +3,26 @@
 
 def after(letters, shape, rule, word):
     """The words that come of a word by a rule in one step, rising, each once."""
+    return sorted({other for place, other in made_at(letters, shape, rule, word)})
+
+
+def made_at(letters, shape, rule, word):
+    """The pairs of a place (of two hands the first one's) at which a rule goes and the word that it makes, rising."""
     if rule[0] == "one":
-        found = after_one(rule, word)
-    elif rule[0] == "two":
-        found = after_two(shape, rule, word)
-    else:
-        found = after_call(letters, rule, word)
-    return sorted(set(found))
+        return made_by_one(rule, word)
+    if rule[0] == "two":
+        return made_by_two(shape, rule, word)
+    return made_by_call(letters, rule, word)
 
 
-def after_one(rule, word):
-    """The words that come where one hand goes by itself."""
+def made_by_one(rule, word):
+    """The places and words where one hand goes by itself."""
     kind, x, y, guard = rule
-    found = []
+    made = []
     for at, letter in enumerate(word):
         if letter == x and holds(guard, word, at):
-            found.append(word[:at] + y + word[at + 1:])
-    return found
+            made.append((at, word[:at] + y + word[at + 1:]))
+    return made
 
 
 def holds(guard, word, at):
@@ -33,32 +36,32 @@ def holds(guard, word, at):
     return all(hits) if how == "all" else any(hits)
 
 
-def after_two(shape, rule, word):
-    """The words that come where two neighbours go at once."""
+def made_by_two(shape, rule, word):
+    """The places and words where two neighbours go at once."""
     kind, x, y, u, v = rule
-    found = []
+    made = []
     for first, second in pairs_of(shape, len(word)):
         if word[first] == x and word[second] == y:
             signs = list(word)
             signs[first] = u
             signs[second] = v
-            found.append("".join(signs))
-    return found
+            made.append((first, "".join(signs)))
+    return made
 
 
 def pairs_of(shape, number):
-    """The pairs of neighbours' places of so many hands."""
+    """The pairs of neighbours' places of so many hands, rising."""
     pairs = [(at, at + 1) for at in range(number - 1)]
     if shape == "ring" and number > 1:
         pairs.append((number - 1, 0))
     return pairs
 
 
-def after_call(letters, rule, word):
-    """The words that come where all others turn with one hand."""
+def made_by_call(letters, rule, word):
+    """The places and words where all others turn with one hand."""
     kind, x, y, image = rule
     turned = "".join([image[letters.index(letter)] for letter in word])
-    return [turned[:at] + y + turned[at + 1:] for at, letter in enumerate(word) if letter == x]
+    return [(at, turned[:at] + y + turned[at + 1:]) for at, letter in enumerate(word) if letter == x]
 
 
 def steps_of(world, word):

@@ -1,22 +1,13 @@
 """Views: what is left of words when letters are struck out, and the machines of lists of these."""
 
-from likehands.building import built, unseen, useful_ways
-from likehands.machines import end_marks
+from likehands.building import built, unseen
+from likehands.machines import ways_of
 
 
 def views_of(machine, size):
     """The views of at most so many letters of the words that a machine has, rising."""
-    letters, table, stops = machine
-    marks = end_marks(machine)
-
-    def moves(state):
-        return [[target] for target in table[state]]
-
-    def is_end(state):
-        return marks[state]
-
-    firsts, ways, ended = useful_ways([0], moves, is_end)
-    return views_of_ways(letters, ways, size)
+    firsts, ways, ended = ways_of(machine)
+    return views_of_ways(machine[0], ways, size)
 
 
 def views_of_ways(letters, ways, size):

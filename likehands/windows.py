@@ -1,7 +1,7 @@
 """Windows: signs that stand one behind the other in words with marks round them, and the machines of such lists."""
 
-from likehands.building import built, explored, useful_ways
-from likehands.machines import end_marks
+from likehands.building import built, explored
+from likehands.machines import ways_of
 
 # What stands ahead of a word and behind it, so that windows tell where it begins and ends.
 FRONT = "^"
@@ -10,17 +10,8 @@ BACK = "$"
 
 def windows_of(machine, size):
     """The windows of a size of the words that a machine has, rising by their signs."""
-    letters, table, stops = machine
-    marks = end_marks(machine)
-
-    def moves(state):
-        return [[target] for target in table[state]]
-
-    def is_end(state):
-        return marks[state]
-
-    firsts, ways, ended = useful_ways([0], moves, is_end)
-    return windows_of_ways(letters, firsts, ways, ended, size)
+    firsts, ways, ended = ways_of(machine)
+    return windows_of_ways(machine[0], firsts, ways, ended, size)
 
 
 def windows_of_ways(letters, firsts, ways, ended, size):

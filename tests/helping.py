@@ -247,28 +247,30 @@ def any_worlds(seed, many_worlds, most_rules=4):
         yield any_world(chance, ALL_LETTERS[turn % 5], chance.choice(SHAPES), chance.randrange(most_rules + 1))
 
 
+def stepped_at(letters, shape, rule, word, place):
+    """The word that a rule makes of a word at a place, straight from points 13 to 15; None where it makes none."""
+    hands = dict(enumerate(word))
+    if rule[0] == "two":
+        beside = place + 1
+        if beside == len(word):
+            beside = 0
+            if shape == "row" or len(word) == 1:
+                return None
+        if (word[place], word[beside]) != rule[1:3]:
+            return None
+        hands[place], hands[beside] = rule[3:]
+    else:
+        if word[place] != rule[1] or rule[0] == "one" and not lets(rule[3], word, place):
+            return None
+        if rule[0] == "call":
+            hands = {at: rule[3][letters.index(hand)] for at, hand in hands.items()}
+        hands[place] = rule[2]
+    return "".join(hands[at] for at in range(len(word)))
+
+
 def stepped(letters, shape, rule, word):
-    """The set of the words that come of a word by a rule: place by place, straight from points 13 to 15."""
-    found = set()
-    for place in range(len(word)):
-        hands = dict(enumerate(word))
-        if rule[0] == "two":
-            beside = place + 1
-            if beside == len(word):
-                beside = 0
-                if shape == "row" or len(word) == 1:
-                    continue
-            if (word[place], word[beside]) != rule[1:3]:
-                continue
-            hands[place], hands[beside] = rule[3:]
-        else:
-            if word[place] != rule[1] or rule[0] == "one" and not lets(rule[3], word, place):
-                continue
-            if rule[0] == "call":
-                hands = {at: rule[3][letters.index(hand)] for at, hand in hands.items()}
-            hands[place] = rule[2]
-        found.add("".join(hands[at] for at in range(len(word))))
-    return found
+    """The set of the words that come of a word by a rule, place by place."""
+    return {stepped_at(letters, shape, rule, word, place) for place in range(len(word))} - {None}
 
 
 def lets(guard, word, place):

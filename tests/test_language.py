@@ -95,8 +95,10 @@ class Language(unittest.TestCase):
     def test_names(self):
         for path, text, tree in self.each():
             for name in bound_names(tree):
-                if not re.fullmatch(r"__\w+__", name):
-                    self.assertRegex(name, r"^[A-Za-z][A-Za-z0-9_]*$")
+                # L5 lets classes have more of these; here one has this one alone.
+                if name == "__init__":
+                    continue
+                self.assertRegex(name, r"^[A-Za-z][A-Za-z0-9_]*$")
                 self.assertFalse(hasattr(builtins, name), name)
                 self.assertNotIn(name, NEVER)
             top = [name for node in tree.body for name in top_names(node)]

@@ -22,7 +22,7 @@ class Readme(unittest.TestCase):
                     continue
                 told += 1
                 self.assertEqual(eval(code.partition(" = ")[2] or code, names), value, line)
-        self.assertGreater(told, 15)
+        self.assertGreater(told, 40)
 
 
 if __name__ == "__main__":
