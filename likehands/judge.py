@@ -17,10 +17,14 @@ def judged(world, greatest):
     if broken is not None:
         number, run = broken
         return "breaks", number, run
-    # Later machines may be large, so none is made where one ahead of it is kept.
+    # Later machines may be large, so none is made where what comes ahead of it is enough.
     for machine in machines_tried(world):
-        if looked_at(world, machine) == ("kept",):
+        found = looked_at(world, machine)
+        if found == ("kept",):
             return "never", machine
+        # Only words that are safe for some steps may lack a word of begin: then those for more steps lack it, too.
+        if found[0] == "begin":
+            break
     return ("open",)
 
 
