@@ -1,6 +1,6 @@
 """Windows: signs that stand one behind the other in words with marks round them, and the machines of such lists."""
 
-from likehands.building import built, explored
+from likehands.building import built, unseen
 from likehands.machines import ways_of
 
 # What stands ahead of a word and behind it, so that windows tell where it begins and ends.
@@ -20,20 +20,38 @@ def windows_of_ways(letters, firsts, ways, ended, size):
     All of these lie between a start and an end, so each letter that is read
     behind some signs stands behind them in a word.
     """
+    windows = []
+    for held, numbers in reached_behind(letters, firsts, ways, size):
+        for letter, column in zip(letters, ways):
+            if any(len(column[number]) > 0 for number in numbers):
+                windows.append(held + letter)
+        if any(ended[number] for number in numbers):
+            windows += last_windows(held, size)
+    return sorted(set(windows))
 
-    def moves(key):
-        number, held = key
-        return [[(later, slid(held, letter)) for later in column[number]] for letter, column in zip(letters, ways)]
 
-    keys, rows = explored([(number, FRONT * (size - 1)) for number in firsts], moves)
-    windows = {}
-    for (number, held), row in zip(keys, rows):
-        for letter, group in zip(letters, row):
-            if len(group) > 0:
-                windows[held + letter] = True
-        if ended[number]:
-            windows.update({window: True for window in last_windows(held, size)})
-    return sorted(windows)
+def reached_behind(letters, firsts, ways, size):
+    """The pairs of signs that may stand ahead of a place of a word, one less than the size, and the numbers there."""
+    reached = []
+    for many in range(size):
+        marks = FRONT * (size - 1 - many)
+        # Where no mark is among the signs, what is ahead of them may have led anywhere.
+        newest = [(marks, firsts if marks != "" else list(range(len(ways[0]))))]
+        for turn in range(many):
+            newest = one_letter_on(letters, ways, newest)
+        reached += newest
+    return reached
+
+
+def one_letter_on(letters, ways, reached):
+    """The pairs of signs and numbers behind one more letter, where there are any."""
+    longer = []
+    for held, numbers in reached:
+        for letter, column in zip(letters, ways):
+            later = unseen([column[number] for number in numbers], {})
+            if len(later) > 0:
+                longer.append((held + letter, later))
+    return longer
 
 
 def slid(held, letter):
